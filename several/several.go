@@ -1,0 +1,17 @@
+// Package several: one number told of any number of them.
+package several
+
+// Greatest tells the greatest of the numbers. Of no numbers it is 0, so that
+// a formula in which nothing stands needs no case of its own.
+func Greatest(numbers ...int) int {
+	if len(numbers) == 0 {
+		return 0
+	}
+	greatest := numbers[0]
+	for _, number := range numbers[1:] {
+		if number > greatest {
+			greatest = number
+		}
+	}
+	return greatest
+}
