@@ -1,13 +1,22 @@
 // Package logic: formulas over time, read from their texts into trees.
 package logic
 
-import "tempo/several"
+import (
+	"slices"
+
+	"tempo/several"
+)
 
 // Interval holds the distances from Low on up to High or, if it is Endless,
 // from Low on.
 type Interval struct {
 	Low, High int
 	Endless   bool
+}
+
+// Has tells whether the distance is in the interval.
+func (within Interval) Has(distance int) bool {
+	return distance >= within.Low && (within.Endless || distance <= within.High)
 }
 
 // Formula is a sign and what stands in it: no part for a proposition and t,
@@ -30,6 +39,11 @@ func (f Formula) Horizon() int {
 		horizon += f.Within.High
 	}
 	return horizon
+}
+
+// LooksAhead tells whether F, G or U stands in the formula.
+func (f Formula) LooksAhead() bool {
+	return looksAhead(f.Sign) || slices.ContainsFunc(f.Parts, Formula.LooksAhead)
 }
 
 func looksBack(sign byte) bool {

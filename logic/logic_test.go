@@ -74,3 +74,53 @@ func TestHorizonOfATree(t *testing.T) {
 		}
 	}
 }
+
+func TestIntervalHas(t *testing.T) {
+	for _, c := range []struct {
+		within   logic.Interval
+		distance int
+		want     bool
+	}{
+		{logic.Interval{}, 0, true},
+		{logic.Interval{}, 1, false},
+		{logic.Interval{Low: 3, High: 5}, 2, false},
+		{logic.Interval{Low: 3, High: 5}, 3, true},
+		{logic.Interval{Low: 3, High: 5}, 5, true},
+		{logic.Interval{Low: 3, High: 5}, 6, false},
+		{logic.Interval{Low: 3, High: 5}, api.MaxTime, false},
+		{logic.Interval{Low: 3, Endless: true}, 2, false},
+		{logic.Interval{Low: 3, Endless: true}, 3, true},
+		{logic.Interval{Low: 3, Endless: true}, api.MaxTime, true},
+		{logic.Interval{Endless: true}, 0, true},
+	} {
+		if got := c.within.Has(c.distance); got != c.want {
+			t.Errorf("%+v has %d: %v", c.within, c.distance, got)
+		}
+	}
+}
+
+func TestMomentHas(t *testing.T) {
+	for set := range 256 {
+		m := logic.Moment{Time: 5, Set: byte(set)}
+		rest := set
+		for proposition := range api.Props {
+			if got := m.Has(proposition); got != (rest%2 == 1) {
+				t.Errorf("%d has %d: %v", set, proposition, got)
+			}
+			rest /= 2
+		}
+	}
+}
+
+func TestLooksAhead(t *testing.T) {
+	for text, want := range map[string]bool{
+		"0": false, "t": false, "!0": false, "(0&1)": false, "(0|1)": false, "O[0,i]0": false, "H[0,1]0": false, "(0S[0,1]1)": false,
+		"F[0,0]0": true, "G[0,1]0": true, "(0U[0,1]1)": true,
+		"!F[0,1]0": true, "(G[0,1]0&1)": true, "(0|(1U[0,1]2))": true, "O[0,i]F[0,1]0": true, "(0S[0,1]!G[0,0]1)": true, "(F[0,0]0S[0,1]1)": true,
+	} {
+		f, ok := logic.Parse(text)
+		if !ok || f.LooksAhead() != want {
+			t.Errorf("%q looks ahead: %v", text, !want)
+		}
+	}
+}
