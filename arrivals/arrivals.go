@@ -69,7 +69,7 @@ func (a *Arrivals) takeEvent(d datagram.Datagram) api.Class {
 	if _, before := a.seen[from]; before {
 		return api.Duplicate
 	}
-	if d.Time < a.line() {
+	if d.Time < a.Line() {
 		return api.Late
 	}
 	if a.waiting() >= a.room {
@@ -101,7 +101,7 @@ func (a *Arrivals) CloseAll() {
 // Release answers the moments below the line in order, and lets them wait no
 // more (P8).
 func (a *Arrivals) Release() []logic.Moment {
-	line := a.line()
+	line := a.Line()
 	var moments []logic.Moment
 	for time, w := range a.waits {
 		if time < line {
@@ -113,8 +113,13 @@ func (a *Arrivals) Release() []logic.Moment {
 	return moments
 }
 
-// line is above everything if no source is open (P6).
-func (a *Arrivals) line() int {
+// IsOpen tells whether any source is.
+func (a *Arrivals) IsOpen() bool {
+	return slices.ContainsFunc(a.sources, func(s source) bool { return s.open })
+}
+
+// Line is above everything if no source is open (P6).
+func (a *Arrivals) Line() int {
 	var marks []int
 	for _, s := range a.sources {
 		if s.open {

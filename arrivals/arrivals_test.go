@@ -34,7 +34,7 @@ func release(t *testing.T, a *Arrivals, want ...logic.Moment) {
 		t.Errorf("Release() = %+v, want %+v", got, want)
 	}
 	for time := range a.waits {
-		if time < a.line() {
+		if time < a.Line() {
 			t.Errorf("P8: %d waits below the line", time)
 		}
 	}
@@ -50,13 +50,19 @@ func TestTheLine(t *testing.T) {
 		{shut(0), 20}, {shut(2), 20}, {mark(1, api.MaxTime), api.MaxTime},
 	} {
 		take(t, &a, step.d, api.Accepted)
-		if got := a.line(); got != step.line {
+		if !a.IsOpen() {
+			t.Errorf("behind %+v no source is open", step.d)
+		}
+		if got := a.Line(); got != step.line {
 			t.Errorf("P6: behind %+v the line is %d, want %d", step.d, got, step.line)
 		}
 	}
 	take(t, &a, shut(1), api.Accepted)
-	if a.line() <= api.MaxTime+api.MaxSize*api.MaxBound {
-		t.Errorf("P6: with no source open the line is %d", a.line())
+	if a.IsOpen() {
+		t.Errorf("a source is open")
+	}
+	if a.Line() <= api.MaxTime+api.MaxSize*api.MaxBound {
+		t.Errorf("P6: with no source open the line is %d", a.Line())
 	}
 }
 

@@ -1,11 +1,7 @@
 // Package logic: formulas over time, read from their texts into trees.
 package logic
 
-import (
-	"slices"
-
-	"tempo/several"
-)
+import "tempo/several"
 
 // Interval holds the distances from Low on up to High or, if it is Endless,
 // from Low on.
@@ -39,11 +35,6 @@ func (f Formula) Horizon() int {
 		horizon += f.Within.High
 	}
 	return horizon
-}
-
-// LooksAhead tells whether F, G or U stands in the formula.
-func (f Formula) LooksAhead() bool {
-	return looksAhead(f.Sign) || slices.ContainsFunc(f.Parts, Formula.LooksAhead)
 }
 
 func looksBack(sign byte) bool {

@@ -111,16 +111,3 @@ func TestMomentHas(t *testing.T) {
 		}
 	}
 }
-
-func TestLooksAhead(t *testing.T) {
-	for text, want := range map[string]bool{
-		"0": false, "t": false, "!0": false, "(0&1)": false, "(0|1)": false, "O[0,i]0": false, "H[0,1]0": false, "(0S[0,1]1)": false,
-		"F[0,0]0": true, "G[0,1]0": true, "(0U[0,1]1)": true,
-		"!F[0,1]0": true, "(G[0,1]0&1)": true, "(0|(1U[0,1]2))": true, "O[0,i]F[0,1]0": true, "(0S[0,1]!G[0,0]1)": true, "(F[0,0]0S[0,1]1)": true,
-	} {
-		f, ok := logic.Parse(text)
-		if !ok || f.LooksAhead() != want {
-			t.Errorf("%q looks ahead: %v", text, !want)
-		}
-	}
-}

@@ -108,7 +108,6 @@ func TestNewOfLists(t *testing.T) {
 	}
 }
 
-// P4 takes every formula, also those of which nothing is told yet.
 func TestNewOfFormulasOfEachKind(t *testing.T) {
 	for _, formula := range manyFormulas() {
 		newMonitor(t, 1, 1, formula)
@@ -141,29 +140,20 @@ func TestFormulasAreNumberedFromZero(t *testing.T) {
 	feed(t, "P4", m, mark(0, 6), api.Accepted, holds(0, 5), fails(1, 5), holds(2, 5), fails(3, 5))
 }
 
-// The document's second monitor, its future formula turned to the past.
+// The document's second monitor.
 func TestTheExample(t *testing.T) {
-	m := newMonitor(t, 2, 3, "0", "O[1,2]0")
+	m := newMonitor(t, 2, 3, "0", "F[1,2]1")
 	feed(t, "P6", m, event(0, 1, 5, 1), api.Accepted)
 	feed(t, "P6", m, event(0, 1, 5, 1), api.Duplicate)
 	feed(t, "P6", m, event(1, 1, 6, 2), api.Accepted)
 	feed(t, "P7", m, mark(0, 9), api.Accepted)
-	feed(t, "P9", m, mark(1, 6), api.Accepted, holds(0, 5), fails(1, 5))
+	feed(t, "P9", m, mark(1, 6), api.Accepted, holds(0, 5))
 	feed(t, "P6", m, event(0, 2, 5, 0), api.Late)
 	feed(t, "P6", m, event(1, 2, 6, 1), api.Accepted)
-	feed(t, "P9", m, mark(1, 8), api.Accepted, holds(0, 6), holds(1, 6))
-	feed(t, "P7", m, shut(1), api.Accepted)
+	feed(t, "P9", m, mark(1, 8), api.Accepted, holds(0, 6), holds(1, 5))
+	feed(t, "P9", m, shut(1), api.Accepted, fails(1, 6))
 	feed(t, "P5", m, event(1, 3, 9, 1), api.Closed)
 	feed(t, "P6", m, event(0, 9, 9, 0), api.Accepted)
 	wantTold(t, "P9", m.Finish(), fails(0, 9), fails(1, 9))
 	wantCounts(t, m, true, 8, 1, 0, 1, 0, 1)
-}
-
-func TestAFormulaThatLooksAheadTakesNothingFromTheOthers(t *testing.T) {
-	m := newMonitor(t, 1, 3, "F[1,2]1", "0")
-	feed(t, "P6", m, event(0, 1, 5, 1), api.Accepted)
-	_, first := m.Feed(mark(0, 6))
-	if !slices.Contains(first, holds(1, 5)) || slices.Contains(first, holds(0, 5)) || slices.Contains(first, fails(0, 5)) {
-		t.Errorf("P9: told is %v", first)
-	}
 }

@@ -1,34 +1,11 @@
 package tempo_test
 
 import (
-	"slices"
 	"strings"
 	"testing"
 
 	"tempo/api"
 )
-
-// wantAnswers asks a formula at each of the times, T or F: with a mark behind
-// each moment, with all of them released at once, and with the events coming
-// in from behind.
-func wantAnswers(t *testing.T, formula string, times []int, sets []int, want string) {
-	t.Helper()
-	verdicts := make([]api.Verdict, len(times))
-	for i, time := range times {
-		verdicts[i] = api.Verdict{Time: time, Holds: want[i] == 'T'}
-	}
-	stepwise := newMonitor(t, 1, 1, formula)
-	atOnce := newMonitor(t, 1, api.MaxRoom, formula)
-	for i, time := range times {
-		feed(t, "P6", stepwise, event(0, i, time, sets[i]), api.Accepted)
-		feed(t, "P9", stepwise, mark(0, time+1), api.Accepted, verdicts[i])
-	}
-	for i, time := range slices.Backward(times) {
-		feed(t, "P6", atOnce, event(0, i, time, sets[i]), api.Accepted)
-	}
-	wantTold(t, "P9, "+formula, stepwise.Finish())
-	wantTold(t, "P9, "+formula, atOnce.Finish(), verdicts...)
-}
 
 func TestEachKindOfFormula(t *testing.T) {
 	times := []int{2, 3, 5, 9, 10, 20}
@@ -41,7 +18,7 @@ func TestEachKindOfFormula(t *testing.T) {
 		"H[0,0]0": "TTFFTF", "H[0,i]0": "TTFFFF", "H[1,i]0": "TTTFFF", "H[2,3]0": "TTTTTT", "H[4,4]0": "TTTFTT", "H[6,i]0": "TTTTTF", "H[1,1]1": "TTTTTT", "H[1,1]!0": "TFTTTT",
 		"(0S[0,i]1)": "TTFTTT", "(0S[1,i]1)": "FTFFTF", "(1S[0,i]0)": "TTFFTT", "(tS[4,7]1)": "FFFTFF", "(!0S[0,i]0)": "TTTTTT", "(!0S[2,6]0)": "FFTTFF", "(!0S[2,5]0)": "FFTFFF", "(0S[0,0]0)": "TTFFTF", "(!tS[0,i]1)": "TFFTFT", "(!tS[1,i]t)": "FFFFFF",
 	} {
-		wantAnswers(t, formula, times, sets, want)
+		wantBothWays(t, formula, times, sets, want)
 	}
 }
 
@@ -62,11 +39,11 @@ func TestNestedFormulas(t *testing.T) {
 		"(t&(t&(t&(t&(t&(t&(t&(t&1))))))))": "FTFTFT",
 		"!(!O[1,2]1|!H[1,2](0|1))":          "FFTFTF",
 	} {
-		wantAnswers(t, formula, times, sets, want)
+		wantBothWays(t, formula, times, sets, want)
 	}
-	wantAnswers(t, strings.Repeat("!", 19)+"0", times, sets, "FTTFFT")
-	wantAnswers(t, strings.Repeat("O[0,0]", 19)+"0", times, sets, "TFFTTF")
-	wantAnswers(t, strings.Repeat("O[1,1]", 3)+"0", times, sets, "FFFTFF")
+	wantBothWays(t, strings.Repeat("!", 19)+"0", times, sets, "FTTFFT")
+	wantBothWays(t, strings.Repeat("O[0,0]", 19)+"0", times, sets, "TFFTTF")
+	wantBothWays(t, strings.Repeat("O[1,1]", 3)+"0", times, sets, "FFFTFF")
 }
 
 // At the first moment there is nothing ahead of it.
@@ -132,7 +109,7 @@ func TestSinceChoosesAnyMoment(t *testing.T) {
 		{"(0S[3,i]1)", []int{0, 2, 4, 6, 8, 20}, []int{2, 1, 2, 1, 1, 1}, "FFFFTT"},
 		{"(0S[5,5]1)", []int{0, 1, 2, 3, 4, 5, 6, 7, 8, 9}, []int{2, 3, 1, 3, 1, 1, 1, 1, 1, 1}, "FFFFFTTFTF"},
 	} {
-		wantAnswers(t, c.formula, c.times, c.sets, c.want)
+		wantBothWays(t, c.formula, c.times, c.sets, c.want)
 	}
 }
 

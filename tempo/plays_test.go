@@ -158,8 +158,8 @@ type dice struct{ *rand.Rand }
 
 func newDice(seed uint64) dice { return dice{rand.New(rand.NewPCG(seed, 42))} }
 
-// past makes a formula of that size that looks into no future.
-func (d dice) past(size int) meaning {
+// formula makes one of that size.
+func (d dice) formula(size int) meaning {
 	if size == 1 {
 		if d.IntN(6) == 0 {
 			return meaning{"t", 0, func([]moment, int) bool { return true }}
@@ -168,70 +168,83 @@ func (d dice) past(size int) meaning {
 		return meaning{decimal(p), 0, func(all []moment, i int) bool { return all[i].set&(1<<p) != 0 }}
 	}
 	if size == 2 || d.IntN(2) == 0 {
-		return d.pastAhead(d.past(size - 1))
+		return d.single(d.formula(size - 1))
 	}
 	left := 1 + d.IntN(size-2)
-	return d.pastBetween(d.past(left), d.past(size-1-left))
+	return d.pair(d.formula(left), d.formula(size-1-left))
 }
 
-func (d dice) pastAhead(f meaning) meaning {
-	within, in := d.within()
-	switch d.IntN(3) {
+func (d dice) single(f meaning) meaning {
+	past, near := d.within(true), d.within(false)
+	switch d.IntN(5) {
 	case 0:
 		return meaning{"!" + f.text, f.horizon, func(all []moment, i int) bool { return !f.holds(all, i) }}
 	case 1:
-		return meaning{"O" + within + f.text, f.horizon, func(all []moment, i int) bool {
-			for j := range i + 1 {
-				if in(all[i].time-all[j].time) && f.holds(all, j) {
-					return true
-				}
-			}
-			return false
+		return meaning{"O" + past.text + f.text, f.horizon, func(all []moment, i int) bool {
+			return some(0, i, func(j int) bool { return past.has(all[i].time-all[j].time) && f.holds(all, j) })
+		}}
+	case 2:
+		return meaning{"H" + past.text + f.text, f.horizon, func(all []moment, i int) bool {
+			return !some(0, i, func(j int) bool { return past.has(all[i].time-all[j].time) && !f.holds(all, j) })
+		}}
+	case 3:
+		return meaning{"F" + near.text + f.text, f.horizon + near.high, func(all []moment, i int) bool {
+			return some(i, len(all)-1, func(j int) bool { return near.has(all[j].time-all[i].time) && f.holds(all, j) })
 		}}
 	}
-	return meaning{"H" + within + f.text, f.horizon, func(all []moment, i int) bool {
-		for j := range i + 1 {
-			if in(all[i].time-all[j].time) && !f.holds(all, j) {
-				return false
-			}
-		}
-		return true
+	return meaning{"G" + near.text + f.text, f.horizon + near.high, func(all []moment, i int) bool {
+		return !some(i, len(all)-1, func(j int) bool { return near.has(all[j].time-all[i].time) && !f.holds(all, j) })
 	}}
 }
 
-func (d dice) pastBetween(f, g meaning) meaning {
-	within, in := d.within()
+func (d dice) pair(f, g meaning) meaning {
+	past, near := d.within(true), d.within(false)
 	horizon := max(f.horizon, g.horizon)
-	switch d.IntN(3) {
+	switch d.IntN(4) {
 	case 0:
 		return meaning{"(" + f.text + "&" + g.text + ")", horizon, func(all []moment, i int) bool { return f.holds(all, i) && g.holds(all, i) }}
 	case 1:
 		return meaning{"(" + f.text + "|" + g.text + ")", horizon, func(all []moment, i int) bool { return f.holds(all, i) || g.holds(all, i) }}
+	case 2:
+		return meaning{"(" + f.text + "S" + past.text + g.text + ")", horizon, func(all []moment, i int) bool {
+			return some(0, i, func(j int) bool {
+				return past.has(all[i].time-all[j].time) && g.holds(all, j) &&
+					!some(j+1, i, func(k int) bool { return !f.holds(all, k) })
+			})
+		}}
 	}
-	return meaning{"(" + f.text + "S" + within + g.text + ")", horizon, func(all []moment, i int) bool {
-		for j := range i + 1 {
-			if !in(all[i].time-all[j].time) || !g.holds(all, j) {
-				continue
-			}
-			lasts := true
-			for k := j + 1; k <= i; k++ {
-				lasts = lasts && f.holds(all, k)
-			}
-			if lasts {
-				return true
-			}
-		}
-		return false
+	return meaning{"(" + f.text + "U" + near.text + g.text + ")", horizon + near.high, func(all []moment, i int) bool {
+		return some(i, len(all)-1, func(j int) bool {
+			return near.has(all[j].time-all[i].time) && g.holds(all, j) &&
+				!some(i, j-1, func(k int) bool { return !f.holds(all, k) })
+		})
 	}}
 }
 
-func (d dice) within() (string, func(int) bool) {
+func some(first, last int, is func(int) bool) bool {
+	for i := first; i <= last; i++ {
+		if is(i) {
+			return true
+		}
+	}
+	return false
+}
+
+// reach is an interval's text and its ends.
+type reach struct {
+	text      string
+	low, high int
+}
+
+func (r reach) has(distance int) bool { return distance >= r.low && distance <= r.high }
+
+func (d dice) within(endless bool) reach {
 	low := []int{0, 1, 2, d.IntN(6), d.IntN(20)}[d.IntN(5)]
-	if d.IntN(3) == 0 {
-		return "[" + decimal(low) + ",i]", func(distance int) bool { return distance >= low }
+	if endless && d.IntN(3) == 0 {
+		return reach{"[" + decimal(low) + ",i]", low, math.MaxInt}
 	}
 	high := low + d.IntN(8)
-	return "[" + decimal(low) + "," + decimal(high) + "]", func(distance int) bool { return distance >= low && distance <= high }
+	return reach{"[" + decimal(low) + "," + decimal(high) + "]", low, high}
 }
 
 // datagram is mostly near the time at which the play is, and now and then
@@ -269,7 +282,7 @@ func play(t *testing.T, seed uint64) {
 	var formulas []meaning
 	var texts []string
 	for range 1 + d.IntN(api.MaxFormulas) {
-		f := d.past(1 + d.IntN(7))
+		f := d.formula(1 + d.IntN(7))
 		formulas, texts = append(formulas, f), append(texts, f.text)
 	}
 	m, e := tempo.New(api.Config{Sources: sources, Room: room}, texts)

@@ -55,7 +55,7 @@ func TestAMonitorThatIsNone(t *testing.T) {
 
 // P1: whatever stands in a datagram of the right length.
 func TestFeedOfAnyBytes(t *testing.T) {
-	m := newMonitor(t, 4, 64, "0", "O[1,i]!1", "(2S[3,9]3)", "H[0,1000]4")
+	m := newMonitor(t, 4, 64, "F[0,1000]0", "O[1,i]!1", "(2S[3,9]F[1,2]3)", "(H[0,1000]4U[0,1000]G[1,9]5)")
 	fed := 0
 	for _, length := range []int{1, 2, 9, 10, 11, 12, 13, 14} {
 		for at := range length {
@@ -99,18 +99,19 @@ func TestListsHandedInAreNotChanged(t *testing.T) {
 }
 
 func TestListsHandedInAreNotKept(t *testing.T) {
-	formulas := []string{"0", "!0", "O[1,1]0"}
+	formulas := []string{"0", "!0", "O[1,1]0", "F[0,3]0"}
 	m := newMonitor(t, 1, 1, formulas...)
-	copy(formulas, []string{"1", "t", "8"})
+	copy(formulas, []string{"1", "t", "8", "1"})
 	feed(t, "P2", m, event(0, 1, 5, 1), api.Accepted)
 	clear(formulas)
 	feed(t, "P2", m, mark(0, 6), api.Accepted, holds(0, 5), fails(1, 5), fails(2, 5))
+	feed(t, "P2", m, mark(0, 9), api.Accepted, holds(3, 5))
 }
 
 // P2: a list that was told is the caller's, spare room and all: it stays as it
 // is whatever is called behind it, and what is laid there is seen nowhere.
 func TestListsThatCameOutAreTheCallers(t *testing.T) {
-	m := newMonitor(t, 1, 8, "0", "O[1,i]0", "t")
+	m := newMonitor(t, 1, 8, "F[1,7]0", "O[1,i]0", "(1U[0,3]0)", "G[0,20](0|O[1,1]F[2,9]1)")
 	var lists, copies [][]api.Verdict
 	keep := func(told []api.Verdict) {
 		lists, copies = append(lists, told), append(copies, slices.Clone(told))
@@ -170,7 +171,7 @@ func TestAMonitorKeepsNoText(t *testing.T) {
 	const ahead = 64 << 20
 	behind := func(text string) string { return (strings.Repeat(" ", ahead) + text)[ahead:] }
 	before := heapInUse()
-	m := newMonitor(t, 1, 1, behind("(0S[1,2]1)"))
+	m := newMonitor(t, 1, 1, behind("(0S[1,2]1)"), behind("(0U[1,2]1)"))
 	feed(t, "P2", m, behind(event(0, 1, 5, 1)), api.Accepted)
 	feed(t, "P2", m, behind(mark(0, 6)), api.Accepted, fails(0, 5))
 	if after := heapInUse(); after > before+ahead/2 {
@@ -180,12 +181,37 @@ func TestAMonitorKeepsNoText(t *testing.T) {
 }
 
 // A monitor that has seen all numbers of all sources, with formulas that
-// remember as much as they can, holds next to nothing when it is finished.
-func TestAMonitorThatIsFinishedKeepsNoEvents(t *testing.T) {
-	before := heapInUse()
-	deep := strings.Repeat("O[1000,1000]", api.MaxSize-1) + "0"
-	m := newMonitor(t, 4, 64, deep, deep, deep, deep)
-	verdicts := 0
+// remember as much as they can, holds next to nothing when it is finished, or
+// when no source is open any more.
+func TestAMonitorThatHasEndedKeepsNoEvents(t *testing.T) {
+	finish := func(m *tempo.Monitor) int { return len(m.Finish()) }
+	closeAll := func(m *tempo.Monitor) (verdicts int) {
+		for source := range 4 {
+			_, told := m.Feed(shut(source))
+			verdicts += len(told)
+		}
+		return verdicts
+	}
+	for _, end := range []func(*tempo.Monitor) int{finish, closeAll} {
+		before := heapInUse()
+		m := newMonitor(t, 4, 64, nested("O[1000,1000]"), nested("F[0,1000]"), nested("G[1000,1000]"), "(0&"+nested("F[0,1000]")[len("F[0,1000]F[0,1000]"):]+")")
+		verdicts := feedAllNumbers(t, m)
+		verdicts += end(m)
+		if after := heapInUse(); after > before+1<<18 {
+			t.Errorf("%d bytes are kept", after-before)
+		}
+		if verdicts != 4<<16 {
+			t.Errorf("P9: %d verdicts", verdicts)
+		}
+		runtime.KeepAlive(m)
+	}
+}
+
+// nested is the deepest formula of that sign.
+func nested(sign string) string { return strings.Repeat(sign, api.MaxSize-1) + "0" }
+
+// feedAllNumbers answers how many verdicts were told.
+func feedAllNumbers(t *testing.T, m *tempo.Monitor) (verdicts int) {
 	for number := range 1 << 16 {
 		for source := range 4 {
 			feed(t, "P6", m, event(source, number, number, 1), api.Accepted)
@@ -196,14 +222,8 @@ func TestAMonitorThatIsFinishedKeepsNoEvents(t *testing.T) {
 	for number := range 1 << 16 {
 		feed(t, "P6", m, event(number%4, number, 1<<16, 1), api.Duplicate)
 	}
-	m.Finish()
-	if after := heapInUse(); after > before+1<<18 {
-		t.Errorf("%d bytes are kept", after-before)
-	}
-	if verdicts != 4<<16 {
-		t.Errorf("P9: %d verdicts", verdicts)
-	}
 	wantCounts(t, m, false, 8<<16, 1<<16, 0, 0, 0, 0)
+	return verdicts
 }
 
 // P2: asked again, in another order and side by side, the answers are the same.

@@ -24,14 +24,8 @@ func Horizon(formula string) (int, api.Errno) {
 // Monitor takes datagrams.
 type Monitor struct {
 	arrivals arrivals.Arrivals
-	watched  []watched
+	watchers []*watch.Watcher
 	counts   [6]int
-}
-
-// watched is a formula's watcher, with the formula's number.
-type watched struct {
-	formula int
-	watcher *watch.Watcher
 }
 
 // New makes a monitor (P4).
@@ -40,15 +34,12 @@ func New(c api.Config, formulas []string) (*Monitor, api.Errno) {
 		return nil, api.ErrArg
 	}
 	m := &Monitor{arrivals: arrivals.New(c.Sources, c.Room)}
-	for number, text := range formulas {
+	for _, text := range formulas {
 		f, ok := logic.Parse(text)
 		if !ok {
 			return nil, api.ErrArg
 		}
-		// No watcher can look ahead yet: better nothing told than a wrong thing.
-		if !f.LooksAhead() {
-			m.watched = append(m.watched, watched{formula: number, watcher: watch.New(f)})
-		}
+		m.watchers = append(m.watchers, watch.New(f))
 	}
 	return m, api.OK
 }
@@ -63,8 +54,13 @@ func (m *Monitor) Feed(datagram string) (api.Class, []api.Verdict) {
 	if m == nil {
 		return api.Malformed, nil
 	}
+	before := m.arrivals.Line()
 	class := m.take(datagram)
 	m.counts[class]++
+	if m.arrivals.Line() == before {
+		// Nothing is released and nothing settled but by a line that rises.
+		return class, nil
+	}
 	return class, m.tell()
 }
 
@@ -79,38 +75,35 @@ func (m *Monitor) take(text string) api.Class {
 // tell lets the formulas go through what is released side by side, and puts
 // together what they tell by their numbers (P9).
 func (m *Monitor) tell() []api.Verdict {
-	moments := m.arrivals.Release()
-	if len(moments) == 0 {
-		return nil
-	}
-	told := make([][]api.Verdict, len(m.watched))
+	moments, line := m.arrivals.Release(), m.arrivals.Line()
+	told := make([][]api.Verdict, len(m.watchers))
 	var all sync.WaitGroup
-	for i, w := range m.watched {
-		all.Go(func() { told[i] = w.over(moments) })
+	for formula, watcher := range m.watchers {
+		all.Go(func() { told[formula] = verdicts(formula, watcher.Next(moments, line)) })
 	}
 	all.Wait()
+	if !m.arrivals.IsOpen() {
+		// No moment comes any more, and all is told: the watchers may go.
+		m.watchers = nil
+	}
 	return slices.Concat(told...)
 }
 
-// over goes through moments that others read at the same time.
-func (w watched) over(moments []logic.Moment) []api.Verdict {
-	verdicts := make([]api.Verdict, 0, len(moments))
-	for _, m := range moments {
-		verdicts = append(verdicts, api.Verdict{Formula: w.formula, Time: m.Time, Holds: w.watcher.Next(m)})
+func verdicts(formula int, readings []watch.Reading) []api.Verdict {
+	told := make([]api.Verdict, len(readings))
+	for i, r := range readings {
+		told[i] = api.Verdict{Formula: formula, Time: r.Time, Holds: r.Holds}
 	}
-	return verdicts
+	return told
 }
 
-// Finish ends it (P9): a datagram behind it is of a source that is closed, and
-// nothing is released any more, so that the watchers may go.
+// Finish ends it (P9): a datagram behind it is of a source that is closed.
 func (m *Monitor) Finish() []api.Verdict {
 	if m == nil {
 		return nil
 	}
 	m.arrivals.CloseAll()
-	told := m.tell()
-	m.watched = nil
-	return told
+	return m.tell()
 }
 
 // Counts tells how many datagrams there were of each class (P10).
